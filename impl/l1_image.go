@@ -71,22 +71,24 @@ func isWord(x int) bool {
 	return x >= WordLow && x <= WordTop
 }
 
-// nearestWord moves a number to the nearest one in WordLow..WordTop.
-func nearestWord(x int) int {
-	return min(max(x, WordLow), WordTop)
-}
-
-// valid reports whether an image can have these words.
-func (w wordList) valid() bool {
-	if len(w) > MaxWords {
-		return false
-	}
-	for _, x := range w {
+// areWords reports whether all numbers are in WordLow..WordTop.
+func areWords(numbers ...int) bool {
+	for _, x := range numbers {
 		if !isWord(x) {
 			return false
 		}
 	}
 	return true
+}
+
+// nearestWord moves a number to the nearest one in WordLow..WordTop.
+func nearestWord(x int) int {
+	return limited(x, WordLow, WordTop)
+}
+
+// valid reports whether an image can have these words.
+func (w wordList) valid() bool {
+	return len(w) <= MaxWords && areWords(w...)
 }
 
 // clone returns the words in new memory.
